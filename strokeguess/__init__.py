@@ -1,0 +1,1 @@
+"""Strokeguess: fingers' strokes on nested parts, read as taps, presses, pulls, spreads and turns."""

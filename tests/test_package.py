@@ -1,0 +1,52 @@
+"""The package itself: its files, their sizes and signs, and where the names of the interface stand."""
+
+import ast
+import os
+import unittest
+
+PACKAGE = os.path.join(os.path.dirname(os.path.dirname(os.path.abspath(__file__))), "strokeguess")
+
+INTERFACE = {
+    "errors.py": ["NoTouch", "NoText", "Late", "IsDown", "NotDown", "NoHope", "NoPart", "NoWatch", "NoCount"],
+    "scenes.py": ["is_scene", "parts_of", "wishes_of"],
+    "machines.py": ["is_machine", "machine_of", "stepped"],
+}
+
+
+def files():
+    return sorted(name for name in os.listdir(PACKAGE) if name != "__pycache__")
+
+
+def text_of(name):
+    with open(os.path.join(PACKAGE, name), encoding="utf-8") as held:
+        return held.read()
+
+
+class Package(unittest.TestCase):
+    def test_it_holds_nothing_but_its_files(self):
+        self.assertEqual([name for name in files() if not name.endswith(".py") or not name.islower()], [])
+        self.assertIn("__init__.py", files())
+
+    def test_the_names_of_the_interface_are_defined_in_their_files(self):
+        for name, wanted in INTERFACE.items():
+            defined = [row.name for row in ast.parse(text_of(name)).body
+                       if isinstance(row, (ast.FunctionDef, ast.ClassDef))]
+            self.assertEqual([word for word in wanted if word not in defined], [], name)
+
+    def test_sizes_and_signs(self):
+        for name in files():
+            with self.subTest(name):
+                rows = text_of(name).split("\n")
+                self.assertLessEqual(len(rows), 399)
+                self.assertLessEqual(max(len(row) for row in rows), 120)
+                self.assertEqual([row for row in rows if any(not " " <= sign <= "~" for sign in row)], [])
+
+    def test_functions_are_small(self):
+        for name in files():
+            for row in ast.walk(ast.parse(text_of(name))):
+                if isinstance(row, ast.FunctionDef):
+                    self.assertLessEqual(row.end_lineno - row.lineno + 1, 40, (name, row.name))
+
+
+if __name__ == "__main__":
+    unittest.main()
