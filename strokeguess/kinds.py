@@ -1,7 +1,8 @@
-"""The plain kinds of which scenes and machines are made, told of anything."""
+"""The plain kinds of which scenes, machines and touches are made, told of anything."""
 
 LETTERS = "abcdefghijklmnopqrstuvwxyz"
 LONGEST_WORD = 8
+FARTHEST = 10000
 
 
 def is_between(thing, least, most):
@@ -15,6 +16,11 @@ def is_word(thing):
     if not isinstance(thing, str) or not 1 <= len(thing) <= LONGEST_WORD:
         return False
     return all([sign in LETTERS for sign in thing])
+
+
+def is_coordinate(thing):
+    """Tell whether a thing is a whole number by which a place can be told, across or along."""
+    return is_between(thing, -FARTHEST, FARTHEST)
 
 
 def is_row(thing, many):

@@ -1,9 +1,8 @@
 """Scenes: parts within one another, with their wishes, shelves and ears."""
 
-from strokeguess.kinds import are_unlike, is_between, is_row, is_word
+from strokeguess.kinds import FARTHEST, are_unlike, is_between, is_coordinate, is_row, is_word
 from strokeguess.machines import LONGEST_WAIT, is_machine
 
-FARTHEST = 10000
 MOST_TAPS = 3
 SHELF_WAYS = ("across", "along")
 PULL_WAYS = ("any", "across", "along")
@@ -87,7 +86,7 @@ def _is_box(thing):
     if not is_row(thing, 4):
         return False
     left, top, wide, high = thing
-    if not is_between(left, -FARTHEST, FARTHEST) or not is_between(top, -FARTHEST, FARTHEST):
+    if not is_coordinate(left) or not is_coordinate(top):
         return False
     return is_between(wide, 1, FARTHEST) and is_between(high, 1, FARTHEST)
 

@@ -10,6 +10,10 @@ INTERFACE = {
     "errors.py": ["NoTouch", "NoText", "Late", "IsDown", "NotDown", "NoHope", "NoPart", "NoWatch", "NoCount"],
     "scenes.py": ["is_scene", "parts_of", "wishes_of"],
     "machines.py": ["is_machine", "machine_of", "stepped"],
+    "ways.py": ["way_at", "corners"],
+    "touches.py": ["is_touch", "first_wrong", "strokes_of"],
+    "measures.py": ["is_beyond", "is_spread", "is_turned", "flung"],
+    "hopes.py": [],
 }
 
 
