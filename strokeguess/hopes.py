@@ -11,16 +11,18 @@ CLAIM = "claim"
 
 
 class Stroke:
-    """What a finger does from a down on: where it went down, and where it is."""
+    """What a finger does from a down on: where it went down, where it is, and the touches that it followed."""
 
     def __init__(self, number, x, y):
         self.number = number
         self.start = (x, y)
         self.spot = (x, y)
+        self.touches = []
 
     def follow(self, touch):
         """Go to where a touch is; a lost one's place counts for nothing."""
         _, _, word, x, y = touch
+        self.touches.append(touch)
         if word != "lost":
             self.spot = (x, y)
 
@@ -38,13 +40,22 @@ class Hope:
         self.wish = wish
         self.label = wish[1]
         self.slop = slop
+        # How many hopes came ahead of it, as whoever keeps many of them counts.
+        self.number = None
         self.strokes = []
         # The finger of its last stroke, as it was when the hope was asked of it last.
         self.is_up = False
         # From which moment the wait is counted that goes on, None where none does.
         self.since = None
+        # By the orders of touches: at which one it was asked last, and from which one its wait is counted.
+        self.asked = None
+        self.counted = None
         self.claimed = None
         self.ending = None
+
+    def first_stroke(self):
+        """Tell the number of its first stroke."""
+        return self.strokes[0].number
 
     def stands(self):
         """Tell whether it is neither out nor has won."""
@@ -74,10 +85,14 @@ class Hope:
         """Tell whether it waits for a finger, so that it comes into a later stroke's contest, too."""
         return self.stands() and self.claimed is None and self._lacks_finger()
 
-    def ask(self, moment, word):
-        """Ask it at a touch of a finger of its strokes, where that stroke follows the touch already."""
+    def ask(self, moment, word, order=0):
+        """Ask it at a touch of a finger of its strokes, where that stroke follows the touch already.
+
+        Orders are numbers that grow from asking to asking, also from hope to hope: waits at one moment end by them.
+        """
         if not self.stands():
             return None
+        self.asked = order
         self.is_up = word == "up"
         return self._settled(moment, self._at_touch(moment, word))
 
@@ -102,6 +117,11 @@ class Hope:
         elif answer is not None:
             self.leave(moment, answer)
         return answer
+
+    def _count(self, moment):
+        """Begin a wait, counted from the touch at which it is asked now."""
+        self.since = moment
+        self.counted = self.asked
 
     def _is_beyond(self, way):
         """Tell whether the finger of its last stroke is beyond the slop."""
@@ -148,7 +168,7 @@ class Tap(Hope):
         self.taps += 1
         if self.taps == self.wish[2]:
             return CLAIM
-        self.since = moment
+        self._count(moment)
         return None
 
     def _at_end(self, moment):
@@ -163,7 +183,7 @@ class Press(Hope):
 
     def _at_touch(self, moment, word):
         if word == "down":
-            self.since = moment
+            self._count(moment)
             return None
         if word == "lost":
             return "lost"
@@ -249,10 +269,16 @@ class Made(Hope):
 
     def _begun(self, moment):
         """Answer at a down: the first one begins state 0, a later one is a word."""
-        return self._entered(moment, 0) if len(self.strokes) == 1 else self._took(moment, "down")
+        if len(self.strokes) > 1:
+            return self._took(moment, "down")
+        self.counted = self.asked
+        return self._entered(moment, 0)
 
     def _took(self, moment, word):
         """Take the step of a word."""
+        # Behind waits that ended it is still counted from the word ahead of them.
+        if word != "wait":
+            self.counted = self.asked
         goal = stepped(self.machine, self.state, word)
         if goal in ENDS:
             return CLAIM if goal == "claim" else "made"
@@ -275,7 +301,7 @@ def hope_for(name, wish, older, slop, gap):
     """Tell which hope of a part's wish comes into a contest at a down: of the older ones of it, or a new one."""
     waiting = [hope for hope in older if hope.waits()]
     if waiting:
-        return min(waiting, key=lambda one: one.strokes[0].number)
+        return min(waiting, key=lambda one: one.first_stroke())
     return new_hope(name, wish, slop, gap)
 
 

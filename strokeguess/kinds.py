@@ -31,3 +31,12 @@ def is_row(thing, many):
 def are_unlike(keys):
     """Tell whether no two of these words, or tuples of words, are alike."""
     return len(set(keys)) == len(keys)
+
+
+def is_same(thing, known):
+    """Tell whether a thing is the same, kinds too, as a known one of tuples, texts and whole numbers."""
+    if isinstance(known, tuple):
+        return is_row(thing, len(known)) and all([is_same(one, other) for one, other in zip(thing, known)])
+    if isinstance(known, str):
+        return isinstance(thing, str) and thing == known
+    return is_between(thing, known, known)

@@ -14,6 +14,13 @@ def is_beyond(way, dx, dy, slop):
     return dx * dx + dy * dy > slop * slop
 
 
+def by_way(way, dx, dy):
+    """Tell what of a difference goes by a way: by "across" and "along" the other one counts for nothing."""
+    if way == "across":
+        return (dx, 0)
+    return (0, dy) if way == "along" else (dx, dy)
+
+
 def is_spread(first, other):
     """Tell whether two fingers' difference is spread, or drawn together, from a first one to another."""
     before = _square(first)

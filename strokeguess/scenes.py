@@ -14,6 +14,10 @@ DEEPEST = 6
 
 # Where a part, a tuple, has these.
 NAME = 0
+BOX = 1
+EAR = 2
+SHELF = 3
+WISHES = 4
 PARTS = 5
 
 
@@ -47,6 +51,21 @@ def wishes_of(scene):
     for name, _, _, _, wishes, _ in _with_inner(scene[0]):
         found.extend([(name, wish) for wish in wishes])
     return found
+
+
+def boxes_of(scene):
+    """Tell of each part's name its box."""
+    return {part[NAME]: part[BOX] for part in _with_inner(scene[0])}
+
+
+def insides_of(scene):
+    """Tell of each part's name the list of its own name and those of all parts in it."""
+    return {part[NAME]: [inner[NAME] for inner in _with_inner(part)] for part in _with_inner(scene[0])}
+
+
+def ears_of(scene):
+    """Tell of each part's name its ear."""
+    return {part[NAME]: part[EAR] for part in _with_inner(scene[0])}
 
 
 def _with_inner(part):

@@ -8,12 +8,17 @@ TOUCH_WORDS = ("down", "move", "up", "lost")
 OVER_WORDS = ("up", "lost")
 
 
+def is_moment(thing):
+    """Tell of anything whether it is a moment."""
+    return is_between(thing, 0, LAST_MOMENT)
+
+
 def is_touch(thing):
     """Tell of anything whether it is a touch."""
     if not is_row(thing, 5):
         return False
     moment, finger, word, x, y = thing
-    if not is_between(moment, 0, LAST_MOMENT) or not is_between(finger, 0, LAST_FINGER):
+    if not is_moment(moment) or not is_between(finger, 0, LAST_FINGER):
         return False
     return word in TOUCH_WORDS and is_coordinate(x) and is_coordinate(y)
 

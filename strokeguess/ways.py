@@ -5,13 +5,18 @@ from strokeguess.scenes import NAME, PARTS
 
 def way_at(scene, x, y, *, places=None):
     """List the names of the parts at a place, the innermost one first."""
+    return way_around(scene, x, y, places, {})
+
+
+def way_around(scene, x, y, places, missing):
+    """List the names of the parts at a place as if those in a dict of names that are missing weren't there."""
     way = []
-    part = _last_at((scene[0],), x, y)
+    part = _last_at((scene[0],), x, y, missing)
     while part is not None:
         way.append(part[NAME])
         left, top = _start_of_inner(part, places)
         x, y = x - left, y - top
-        part = _last_at(part[PARTS], x, y)
+        part = _last_at(part[PARTS], x, y, missing)
     way.reverse()
     return way
 
@@ -23,11 +28,11 @@ def corners(scene, *, places=None):
     return found
 
 
-def _last_at(parts, x, y):
+def _last_at(parts, x, y, missing):
     """Tell the last of these parts that is at a place, told in their parent's places, or None."""
     for part in reversed(parts):
-        _, (left, top, wide, high), _, _, _, _ = part
-        if left <= x < left + wide and top <= y < top + high:
+        name, (left, top, wide, high), _, _, _, _ = part
+        if name not in missing and left <= x < left + wide and top <= y < top + high:
             return part
     return None
 

@@ -14,6 +14,23 @@ INTERFACE = {
     "touches.py": ["is_touch", "first_wrong", "strokes_of"],
     "measures.py": ["is_beyond", "is_spread", "is_turned", "flung"],
     "hopes.py": [],
+    "contests.py": [],
+    "reader.py": ["Reader"],
+    "shelves.py": ["Shelves"],
+    "whys.py": ["is_how", "paper", "first_wrong_row"],
+}
+
+METHODS = {
+    ("reader.py", "Reader"): ["put", "go", "told", "how", "places", "shown", "heard", "moment", "fingers", "out", "back",
+                              "copy", "labels"],
+    ("shelves.py", "Shelves"): ["step", "places", "copy"],
+}
+
+# What stands behind a star, by function or class.
+BY_NAME = {
+    ("ways.py", "way_at"): ["places"], ("ways.py", "corners"): ["places"], ("machines.py", "machine_of"): ["gap"],
+    ("reader.py", "Reader"): ["slop", "gap", "guessing"],
+    ("whys.py", "is_how"): ["slop", "gap"], ("whys.py", "first_wrong_row"): ["slop", "gap"],
 }
 
 
@@ -36,6 +53,22 @@ class Package(unittest.TestCase):
             defined = [row.name for row in ast.parse(text_of(name)).body
                        if isinstance(row, (ast.FunctionDef, ast.ClassDef))]
             self.assertEqual([word for word in wanted if word not in defined], [], name)
+
+    def test_the_methods_of_the_interface_are_defined_in_their_classes(self):
+        for (name, owner), wanted in METHODS.items():
+            made = [row for row in ast.parse(text_of(name)).body if isinstance(row, ast.ClassDef) and row.name == owner]
+            defined = [row.name for row in made[0].body if isinstance(row, ast.FunctionDef)]
+            self.assertEqual([word for word in wanted if word not in defined], [], owner)
+
+    def test_parameters_behind_a_star(self):
+        for name, wanted in INTERFACE.items():
+            for row in ast.parse(text_of(name)).body:
+                if getattr(row, "name", None) in wanted and name != "errors.py":
+                    begin = row
+                    if isinstance(row, ast.ClassDef):
+                        begin = [inner for inner in row.body if getattr(inner, "name", None) == "__init__"][0]
+                    behind = [one.arg for one in begin.args.kwonlyargs]
+                    self.assertEqual(behind, BY_NAME.get((name, row.name), []), row.name)
 
     def test_sizes_and_signs(self):
         for name in files():
