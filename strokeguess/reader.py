@@ -140,7 +140,7 @@ class Reader:
         """Make a gate that lets pass what it may be told next."""
         return self._gate.copy()
 
-    def strokes(self):
+    def many_strokes(self):
         """Tell how many strokes there were."""
         return self._contests.many()
 

@@ -45,7 +45,7 @@ def reader(found, *rows, until=None, **by):
 
 def papers(made):
     """All that how tells, contest by contest."""
-    return [[(label, made.how(at, label)) for label in made.labels(at)] for at in range(made.strokes())]
+    return [[(label, made.how(at, label)) for label in made.labels(at)] for at in range(made.many_strokes())]
 
 
 def stand(made):

@@ -18,19 +18,26 @@ INTERFACE = {
     "reader.py": ["Reader"],
     "shelves.py": ["Shelves"],
     "whys.py": ["is_how", "paper", "first_wrong_row"],
+    "likeness.py": ["alike", "claimed", "led", "smaller"],
+    "plays.py": ["plain", "play", "leads"],
+    "texts.py": ["show_touches", "read_touches", "show_scene", "read_scene", "show_told", "read_told"],
+    "desk.py": ["Desk", "read_desk"],
 }
 
 METHODS = {
     ("reader.py", "Reader"): ["put", "go", "told", "how", "places", "shown", "heard", "moment", "fingers", "out", "back",
                               "copy", "labels"],
     ("shelves.py", "Shelves"): ["step", "places", "copy"],
+    ("desk.py", "Desk"): ["put", "go", "several", "out", "back", "cut", "watch", "drop", "watched", "many", "told", "how",
+                          "places", "shown", "heard", "written"],
 }
 
 # What stands behind a star, by function or class.
 BY_NAME = {
     ("ways.py", "way_at"): ["places"], ("ways.py", "corners"): ["places"], ("machines.py", "machine_of"): ["gap"],
-    ("reader.py", "Reader"): ["slop", "gap", "guessing"],
+    ("reader.py", "Reader"): ["slop", "gap", "guessing"], ("desk.py", "Desk"): ["slop", "gap", "guessing"],
     ("whys.py", "is_how"): ["slop", "gap"], ("whys.py", "first_wrong_row"): ["slop", "gap"],
+    ("plays.py", "plain"): ["slop"], ("plays.py", "play"): ["slop", "gap"], ("likeness.py", "led"): ["slop"],
 }
 
 

@@ -125,7 +125,7 @@ class Wins(Drawn):
         for _, found, rows, by in self.each(60):
             made = told_by(found, rows, **by)
             wins = [(row[0], row[1], row[2]) for row in made.told() if row[3] in ("tapped", "began")]
-            hows = {(label, made.how(stroke, label)) for stroke in range(made.strokes()) for label in made.labels(stroke)
+            hows = {(label, made.how(stroke, label)) for stroke in range(made.many_strokes()) for label in made.labels(stroke)
                     if made.how(stroke, label)[0] == "won"}
             self.assertEqual(len(wins), len(set(wins)))
             self.assertEqual({(label, ("won", moment)) for moment, label, _ in wins}, hows)
@@ -251,7 +251,7 @@ class Fingers(Drawn):
                 told = [(*row[:2], its.index(row[2]), *row[3:]) for row in together.told() if row[2] in its]
                 self.assertEqual(told, alone.told())
                 sheets = [papers(together)[at] for at in its]
-                self.assertEqual(len(sheets), alone.strokes())
+                self.assertEqual(len(sheets), alone.many_strokes())
                 for one, other in zip(sheets, papers(alone)):
                     self.assertEqual([(label, how[:3]) for label, how in one], [(label, how[:3]) for label, how in other])
                 self.assertEqual([row for row in together.heard() if row[2] == finger], alone.heard())
