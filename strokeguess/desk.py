@@ -149,15 +149,16 @@ def _empty_desk(scene, row):
 
 
 def _is_done(desk, row):
-    """Do the deed of a row; tell whether there is such a deed, and it wasn't refused."""
+    """Do the deed of a row; tell whether it wasn't refused."""
     try:
-        return _did(desk, row)
+        _do(desk, row)
     except (NoTouch, Late, IsDown, NotDown, NoPart):
         return False
+    return True
 
 
-def _did(desk, row):
-    """Do the deed of a row; tell whether there is such a deed."""
+def _do(desk, row):
+    """Do the deed of a row; what is no deed is refused."""
     word, *more = fields_of(row)
     if word == "back" and len(more) == 0:
         desk.back()
@@ -166,8 +167,5 @@ def _did(desk, row):
     elif word == "out" and len(more) == 1:
         desk.out(more[0])
     else:
-        touch = touch_of(row)
-        if touch is None:
-            return False
-        desk.put(touch)
-    return True
+        # Where there is none it is refused as any other thing that is no touch.
+        desk.put(touch_of(row))

@@ -17,7 +17,6 @@ NAME = 0
 BOX = 1
 EAR = 2
 SHELF = 3
-WISHES = 4
 PARTS = 5
 
 

@@ -471,6 +471,13 @@ class Waits(Asked):
         rows = [("down", 0, 10), ("down", 40, 110, 0, 1), ("move", 50, 12)]
         self.assertEqual([row[1] for row in reader(found, *rows, until=100).told()], ["m", "b"])
 
+    def test_a_move_within_the_slop_ahead_of_a_waits_end_changes_nothing(self):
+        machine = (state(50, wait=1), state(50, wait="claim"))
+        found = scene(part("all", parts=[part("a", ("made", "m", machine), box=LEFT),
+                                        part("b", ("press", "b", 60), box=RIGHT)]))
+        rows = [("down", 0, 10), ("down", 40, 110, 0, 1), ("move", 45, 12)]
+        self.assertEqual([row[1] for row in reader(found, *rows, until=100).told()], ["m", "b"])
+
     def test_with_all_that_comes_of_each_ahead_of_the_next_one(self):
         # Both end at 50; a's win puts b out, and frees c, which wins ahead of the press behind it.
         wishes = [("press", "a", 50), ("press", "b", 50), ("press", "c", 20), ("press", "e", 50)]

@@ -160,6 +160,21 @@ class Several(Asked):
             made.several([(5, 0, "down", 5, 5), (6, 0, "down", 5, 5)])
         self.assertEqual(made.many(), 4)
 
+    def test_fingers_that_are_down_ahead_of_the_list_count(self):
+        made = Desk(FOUND)
+        made.put((0, 4, "down", 5, 5))
+        with self.assertRaises(IsDown) as caught:
+            made.several([50, (60, 4, "down", 5, 5)])
+        self.assertEqual([caught.exception.finger, made.many()], [4, 1])
+        made.several([50, (60, 4, "move", 6, 5), (70, 4, "up", 6, 5)])
+        self.assertEqual(made.many(), 4)
+        # What a list that was refused told of fingers is as never told.
+        with self.assertRaises(NotDown):
+            made.several([(80, 4, "down", 5, 5), (90, 4, "up", 5, 5), (90, 4, "up", 5, 5)])
+        with self.assertRaises(Late) as caught:
+            made.several([69, 80])
+        self.assertEqual([caught.exception.last, made.many()], [70, 4])
+
     def test_what_is_handed_in_stays_and_is_copied(self):
         made = Desk(FOUND)
         rows = [(0, 0, "down", 5, 5), 9]
@@ -346,6 +361,12 @@ class Written(Refused):
         self.no_text(read_desk, "", 0)
         self.no_text(read_desk, HEAD, HEAD.count("\n") + 1)
         self.no_text(read_desk, HEAD + "\n", HEAD.count("\n") + 2)
+
+    def test_a_wrong_row_of_a_scene_without_a_row_behind_it(self):
+        self.no_text(read_desk, "part 0 a 0 0 1 1\nx\nwish tap t 1", 1)
+        self.no_text(read_desk, "part 0 a 0 0 1 1\nslop 18 gap 300\ngo 5", 1)
+        self.no_text(read_desk, "slop 18 gap 300", 0)
+        self.no_text(read_desk, HEAD + "\nslop 18 gap 300", HEAD.count("\n") + 1)
 
     def test_a_scene_that_lacks_rows_at_the_row_without_signs(self):
         self.no_text(read_desk, "\n\nslop 18 gap 300", 0)

@@ -28,6 +28,13 @@ def swapped(one, swap):
     return (name, box, ear, shelf, tuple(swap(wish) for wish in wishes), tuple(swapped(inner, swap) for inner in parts))
 
 
+def in_tens(draw, wish):
+    """A wish of the same kind that waits for tens."""
+    if wish[0] == "press":
+        return (*wish[:2], draw.choice([10, 20, 30, 40]))
+    return (*wish[:2], draws.machine(draw, 6, (10, 20, 30))) if wish[0] == "made" else wish
+
+
 class Drawn(unittest.TestCase):
     seed = None
 
@@ -58,6 +65,17 @@ class AgainstTheModel(Drawn):
                 self.assertEqual([made.places(), made.shown()], [model.places(), model.shown()])
             self.assertEqual(made.go(10 ** 6), model.go(10 ** 6))
             self.assertEqual([made.told(), made.heard(), papers(made)], [model.told(), model.heard(), model.papers()])
+
+    def test_many_waits_that_end_at_one_moment(self):
+        for draw, found, rows, _ in self.each(120, 50, (2, 3, 5)):
+            found = (swapped(found[0], lambda wish: in_tens(draw, wish)), *found[1:])
+            by = {"gap": draw.choice([10, 20, 30]), "guessing": True}
+            made, model, moment = Reader(found, **by), Model(found, **by), 0
+            for row in rows:
+                moment += draw.choice([0, 0, 10, 10, 20])
+                self.assertEqual(made.put((moment, *row[1:])), model.put((moment, *row[1:])))
+            self.assertEqual(made.go(10 ** 6), model.go(10 ** 6))
+            self.assertEqual(papers(made), model.papers())
 
     def test_the_draws_come_to_all_there_is(self):
         words, whys = set(), set()
